@@ -1,0 +1,1 @@
+"""Multiplication on a calculating machine with a shifting carriage."""
