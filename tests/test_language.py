@@ -23,6 +23,7 @@ format_map print chr""".split()
 NEVER_WORDS = """type typing typing_extensions enum Enum IntEnum StrEnum Flag IntFlag Generic
 Protocol ABC ABCMeta namedtuple NamedTuple TypedDict TYPE_CHECKING abstractmethod""".split()
 WALKED_AT_ONCE = {"zip", "enumerate", "reversed", "range"}
+VIEWS = {"items", "keys", "values"}
 TAKERS = {"list", "tuple", "dict", "sorted", "sum", "any", "all", "enumerate", "zip", "min", "max"}
 
 NODES = (ast.Module, ast.FunctionDef, ast.ClassDef, ast.arguments, ast.arg, ast.Assign,
@@ -30,7 +31,7 @@ NODES = (ast.Module, ast.FunctionDef, ast.ClassDef, ast.arguments, ast.arg, ast.
          ast.Raise, ast.Try, ast.ExceptHandler, ast.Expr, ast.ImportFrom, ast.alias, ast.Name,
          ast.Attribute, ast.Subscript, ast.Slice, ast.Constant, ast.List, ast.Tuple, ast.Dict,
          ast.BinOp, ast.UnaryOp, ast.BoolOp, ast.Compare, ast.IfExp, ast.Call, ast.ListComp,
-         ast.comprehension, ast.Load, ast.Store, ast.operator, ast.unaryop, ast.boolop, ast.cmpop)
+         ast.comprehension, ast.JoinedStr, ast.FormattedValue, ast.Load, ast.Store, ast.operator, ast.unaryop, ast.boolop, ast.cmpop)
 
 
 def sources():
@@ -107,8 +108,14 @@ class Forms(unittest.TestCase):
                 if isinstance(node, ast.Constant):
                     self.assertIn(type(node.value), (int, str, bool, type(None)), told)
                 if isinstance(node, ast.Compare):
-                    for sign in node.ops:
-                        self.assertNotIsInstance(sign, (ast.Is, ast.IsNot), told)
+                    for sign, right in zip(node.ops, node.comparators):
+                        if isinstance(sign, (ast.Is, ast.IsNot)):
+                            self.assertIsInstance(right, ast.Constant, told)
+                            self.assertIn(right.value, (None, True, False), told)
+                if isinstance(node, ast.FormattedValue):
+                    self.assertIsInstance(node.value, ast.Name, told)
+                    self.assertIn(node.conversion, (-1, ord("r")), told)
+                    self.assertIsNone(node.format_spec, told)
 
     def test_functions_and_classes_are_plain(self):
         for path, tree in trees():
@@ -153,6 +160,9 @@ class Forms(unittest.TestCase):
             for node in ast.walk(tree):
                 if isinstance(node, ast.Call) and isinstance(node.func, ast.Name):
                     if node.func.id in WALKED_AT_ONCE:
+                        self.assertIn(id(node), allowed, (path.name, node.lineno))
+                if isinstance(node, ast.Call) and isinstance(node.func, ast.Attribute):
+                    if node.func.attr in VIEWS:
                         self.assertIn(id(node), allowed, (path.name, node.lineno))
 
 

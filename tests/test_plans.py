@@ -3,43 +3,13 @@
 import unittest
 
 from tests.helper import (ACCUMULATOR, COST, COUNTER, EXECUTE, LOAD, MOVES, PLAN, SET, last,
-                          machine_text, numeral, read_plan, run)
-from turncarriage.signed import signed_digits
+                          machine_text, numeral, plans_by_words, read_plan, run, shifted)
 
 
-def representations(k, base, n):
-    """All digits that the document allows for k with n + 1 places."""
-    if n == 0:
-        return [[k]]
-    found = []
-    for digit in range(-base + 1, base):
-        if (k - digit) % base == 0:
-            for higher in representations((k - digit) // base, base, n - 1):
-                found.append([digit] + higher)
-    return found
-
-
-def signed_digits_by_words(k, base, n):
-    # where two of them first differ, just one of the two digits is negative
-    return min(representations(k, base, n),
-               key=lambda digits: (sum(map(abs, digits)), [digit < 0 for digit in digits]))
-
-
-def plan_by_words(k, base, carriage, turn, shift, position):
+def plan_by_words(*given):
     """(cost, lo, hi, upward, digits) of the optimal plan."""
-    best = None
-    for lo in range(carriage):
-        if k % base ** lo != 0:
-            continue
-        for hi in range(lo, carriage):
-            digits = signed_digits_by_words(k // base ** lo, base, hi - lo)
-            turns = sum(map(abs, digits))
-            for upward in (1, 0):
-                first = lo if upward else hi
-                cost = turn * turns + shift * (abs(position - first) + hi - lo)
-                if best is None or cost < best[0]:
-                    best = (cost, lo, hi, upward, digits)
-    return best
+    # of equal costs min takes the first one
+    return min(plans_by_words(*given), key=lambda plan: plan[0])
 
 
 def move_count(plan, position):
@@ -57,27 +27,6 @@ def moves_by_words(plan, position):
             moves.append(3 if upward else 4)
         moves += [1 if digits[place - lo] > 0 else 2] * abs(digits[place - lo])
     return moves
-
-
-def shifted(position):
-    return (EXECUTE, [3] * position)
-
-
-class SignedDigits(unittest.TestCase):
-    def test_beside_the_words(self):
-        for base, n in ((2, 0), (2, 1), (2, 5), (3, 0), (3, 3), (4, 4), (10, 2), (36, 1)):
-            for k in range(-200, 201):
-                self.assertEqual(signed_digits(k, base, n), signed_digits_by_words(k, base, n),
-                                 (k, base, n))
-
-    def test_ties(self):
-        self.assertEqual(signed_digits(15, 10, 1), [5, 1])
-        self.assertEqual(signed_digits(-15, 10, 1), [-5, -1])
-        self.assertEqual(signed_digits(55, 10, 2), [5, 5, 0])
-        self.assertEqual(signed_digits(-55, 10, 2), [5, 4, -1])
-        self.assertEqual(signed_digits(5, 10, 0), [5])
-        self.assertEqual(signed_digits(3, 2, 2), [1, 1, 0])
-        self.assertEqual(signed_digits(-3, 2, 2), [1, 0, -1])
 
 
 class BesideTheWords(unittest.TestCase):

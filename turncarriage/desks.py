@@ -2,7 +2,7 @@
 
 from turncarriage.signed import power
 from turncarriage.tokenreader import TokenReader
-from turncarriage.wording import text_bytes
+from turncarriage.wording import LINE_FEED, text_bytes
 
 LARGEST_BASE = 36
 MOST_PLACES = 40
@@ -42,3 +42,14 @@ def read_desk(text):
     desk.setting = reader.take_field("set", 0, LARGEST_COST)
     reader.take_end()
     return desk
+
+
+def written_fields(fields):
+    return text_bytes(" ".join([f"{word} {number}" for word, number in fields]))
+
+
+def desk_text(desk):
+    first = text_bytes("desk ") + desk.name
+    second = written_fields([("base", desk.base), ("places", desk.places), ("carriage", desk.carriage)])
+    third = written_fields([("turn", desk.turn), ("shift", desk.shift), ("set", desk.setting)])
+    return first + [LINE_FEED] + second + [LINE_FEED] + third

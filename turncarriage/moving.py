@@ -11,7 +11,7 @@ SHIFT_DOWN = 4
 MOST_MOVES = 2000
 
 
-def check_moves(moves):
+def check_move_numbers(moves):
     if len(moves) > MOST_MOVES:
         raise BadMoves()
     for move in moves:

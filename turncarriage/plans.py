@@ -14,19 +14,31 @@ class Plan:
         self.digits = []
 
 
+# The highest position that the lowest turn may stand at.
+def highest_lo(k, desk):
+    lo = 0
+    while lo + 1 < desk.carriage and k % power(desk.base, lo + 1) == 0:
+        lo += 1
+    return lo
+
+
+# What the turns cost at least, by the highest position. The digits below lo
+# would all be 0, so their sum is the same for each lo.
+def turning_costs(k, desk):
+    return [desk.turn * turn_count(signed_digits(k, desk.base, hi)) for hi in range(desk.carriage)]
+
+
 # Each plan as its cost, lo, hi, and 0 if it is upward (1 if it is downward): in
 # this order the least of the tuples is the optimal plan.
 def possible_plans(k, desk, position):
     plans = []
-    for hi in range(desk.carriage):
-        # the digits below lo would all be 0, so their sum is the same for each lo
-        turning = desk.turn * turn_count(signed_digits(k, desk.base, hi))
-        for lo in range(hi + 1):
-            if k % power(desk.base, lo) == 0:
-                upward = abs(position - lo) + hi - lo
-                downward = abs(position - hi) + hi - lo
-                plans.append((turning + desk.shift * upward, lo, hi, 0))
-                plans.append((turning + desk.shift * downward, lo, hi, 1))
+    top = highest_lo(k, desk)
+    for hi, turning in enumerate(turning_costs(k, desk)):
+        for lo in range(min(hi, top) + 1):
+            upward = abs(position - lo) + hi - lo
+            downward = abs(position - hi) + hi - lo
+            plans.append((turning + desk.shift * upward, lo, hi, 0))
+            plans.append((turning + desk.shift * downward, lo, hi, 1))
     return plans
 
 

@@ -30,6 +30,11 @@ class BeyondEnd(Refusal):
         self.code = -6
 
 
+class TooManyIntegers(Refusal):
+    def __init__(self):
+        self.code = -7
+
+
 class PlanTooLong(Refusal):
     def __init__(self):
         self.code = -8

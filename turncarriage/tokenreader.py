@@ -1,10 +1,7 @@
 """Reading a text token by token, with the offset of the first bad one."""
 
 from turncarriage.refusals import BadSyntax
-from turncarriage.wording import decimal_value, is_decimal, is_name, text_bytes
-
-LINE_FEED = 10
-SPACE = 32
+from turncarriage.wording import LINE_FEED, SPACE, decimal_value, is_decimal, is_name, text_bytes
 
 
 # Gives pairs of an offset and the token's bytes. An empty line gives an empty

@@ -1,12 +1,14 @@
 """Texts as lists of bytes: decimals, integers, names and numerals."""
 
-from turncarriage.refusals import BadForm, NotBytes
+from turncarriage.refusals import BadForm, NotBytes, TooManyIntegers
 
 LONGEST_ROW = 1000
 LONGEST_DECIMAL = 300
 LONGEST_INTEGER = 40
 LONGEST_NAME = 12
 
+LINE_FEED = 10
+SPACE = 32
 MINUS = 45
 DIGIT_ZERO = 48
 DIGIT_NINE = 57
@@ -21,6 +23,13 @@ def text_bytes(text):
 def numeral(number):
     written = text_bytes(str(number))
     return [len(written)] + written
+
+
+def numerals(numbers):
+    written = []
+    for number in numbers:
+        written.extend(numeral(number))
+    return written
 
 
 def check_bytes(row):
@@ -61,16 +70,42 @@ def read_decimal(row):
 
 def read_integer(row):
     check_bytes(row)
+    return integer_value(row)
+
+
+# No bytes are a list without integers, though nothing between two spaces would
+# be an integer of a wrong form.
+def read_integers(row, most):
+    check_bytes(row)
+    if len(row) == 0:
+        return []
+    integers = [integer_value(part) for part in split_at_spaces(row)]
+    if len(integers) > most:
+        raise TooManyIntegers()
+    return integers
+
+
+def split_at_spaces(row):
+    parts = [[]]
+    for byte in row:
+        if byte == SPACE:
+            parts.append([])
+        else:
+            parts[-1].append(byte)
+    return parts
+
+
+def integer_value(row):
     if row[:1] == [MINUS]:
-        size = read_size(row[1:])
+        size = size_value(row[1:])
         # `-0` would be a second text of the integer 0
         if size == 0:
             raise BadForm()
         return -size
-    return read_size(row)
+    return size_value(row)
 
 
-def read_size(row):
+def size_value(row):
     if len(row) > LONGEST_INTEGER or not is_decimal(row):
         raise BadForm()
     return decimal_value(row)
