@@ -144,7 +144,7 @@ class Ranges(unittest.TestCase):
                  [2 ** 100, 2 ** 37 - 2 ** 9, 0, 3 * 2 ** 11], [int("45" * 6), 10 ** 11, 55, -10 ** 4],
                  [2 ** 11, 2 ** 5, 1, 2 ** 8])
         for base in (2, 7, 10, 36):
-            for turn, shift in ((1, 1), (0, 1), (1, 0), (3, 1000), (1000, 3)):
+            for turn, shift in ((1, 1), (3, 1000), (1000, 0)):
                 for at, integers in enumerate(lists):
                     machine = (base, 12, turn, shift)
                     for position in (0, 4 + at, 11):
